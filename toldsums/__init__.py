@@ -1,0 +1,1 @@
+"""Stretches of a row of whole numbers, and what their sums tell."""
