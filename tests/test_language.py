@@ -99,6 +99,36 @@ class Language(unittest.TestCase):
                         self.assertIn(module, modules)
                         self.assertNotIn("*", [alias.name for alias in node.names])
 
+    def test_imports_name_the_file_that_defines_the_name(self):
+        defined = {}
+        asked = {}
+        for file, text, tree in TREES:
+            module = "toldsums." + file.removesuffix(".py")
+            imports = [node for node in tree.body if isinstance(node, ast.ImportFrom)]
+            others = [node for node in tree.body if node not in imports]
+            defined[module] = set(bound_names(ast.Module(others, [])))
+            asked[module] = [(node.module, alias.name) for node in imports for alias in node.names]
+        for module, names in asked.items():
+            for other, name in names:
+                with self.subTest(module=module, name=name):
+                    self.assertIn(name, defined[other])
+        # Each round takes away the files that import only from those gone; a ring would stay.
+        left = dict(asked)
+        while left:
+            free = [module for module, names in left.items() if not any(other in left for other, name in names)]
+            self.assertTrue(free, sorted(left))
+            for module in free:
+                del left[module]
+
+    def test_is_stands_beside_none_and_truths_only(self):
+        for file, text, tree in TREES:
+            for node in ast.walk(tree):
+                if isinstance(node, ast.Compare):
+                    for sign, value in zip(node.ops, node.comparators):
+                        if isinstance(sign, (ast.Is, ast.IsNot)):
+                            with self.subTest(file=file, line=node.lineno):
+                                self.assertTrue(isinstance(value, ast.Constant) and value.value in (None, True, False))
+
     def test_statements_and_expressions(self):
         for file, text, tree in TREES:
             with self.subTest(file=file):

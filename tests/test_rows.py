@@ -2,10 +2,10 @@ import itertools
 import re
 import unittest
 
+from asked import GREAT, every_sum, rows_to_ask
 from toldsums.errors import NoStretch, NoText
-from toldsums.rows import length_of, read_row, row_shown, stretches_of, sum_of, sums_ahead
+from toldsums.rows import length_of, read_row, row_shown, stretches_of, sum_of, summed_stretches, sums_ahead
 
-GREAT = 10 ** 12 - 1
 SIXTY = tuple((-1) ** at * (at * 16_949_152_542 % 10 ** 12) for at in range(60))
 SIGNS = [chr(code) for code in range(32, 127) if chr(code) != "\x25"] + ["\n"]
 
@@ -159,6 +159,10 @@ class Stretches(unittest.TestCase):
         self.assertEqual(stretches_of((5, 5, 5)), [(0, 1), (0, 2), (0, 3), (1, 2), (1, 3), (2, 3)])
         self.assertEqual(len(stretches_of(SIXTY)), 1830)
         self.assertEqual(length_of((2, 7)), 5)
+
+    def test_all_stretches_with_their_sums(self):
+        for row in rows_to_ask():
+            self.assertEqual(summed_stretches(row), every_sum(row), row)
 
 
 class Ahead(unittest.TestCase):

@@ -57,7 +57,32 @@ def stretches_of(row):
     return [(low, high) for low in range(many) for high in range(low + 1, many + 1)]
 
 
+def summed_stretches(row):
+    """All stretches of a row as pairs (sum, stretch), a list in the order of the stretches."""
+    ahead = sums_ahead(row)
+    return [(ahead[high] - ahead[low], (low, high)) for low, high in stretches_of(row)]
+
+
 def length_of(stretch):
     """How many numbers a stretch has."""
     low, high = stretch
     return high - low
+
+
+# Of several as long, max and min keep the one that stands first. So where the
+# list that is handed in is in order, it is the least as a pair.
+
+
+def first_of(stretches):
+    """The first of a list of stretches in order, or None."""
+    return min(stretches, default=None)
+
+
+def longest_of(stretches):
+    """The first of the longest of a list of stretches in order, or None."""
+    return max(stretches, key=length_of, default=None)
+
+
+def shortest_of(stretches):
+    """The first of the shortest of a list of stretches in order, or None."""
+    return min(stretches, key=length_of, default=None)
