@@ -57,6 +57,25 @@ def gone_through(pairs, wanted):
     return len(found), found, first, longest, shortest
 
 
+def every_apart(many, place=0):
+    """Every set of stretches apart of so many numbers, from a place on, as a tuple in order."""
+    yield ()
+    for low in range(place, many):
+        for high in range(low + 1, many + 1):
+            for others in every_apart(many, high):
+                yield ((low, high),) + others
+
+
+def apart_with(row, total):
+    """Every set of stretches apart that all have the told sum."""
+    held = {stretch for own, stretch in every_sum(row) if own == total}
+    return [stretches for stretches in APART[len(row)] if held.issuperset(stretches)]
+
+
+def numbers_in(stretches):
+    return sum(high - low for low, high in stretches)
+
+
 def numbers_to_ask(pairs):
     """Some sums that stand, the ends among them, one more, one less, 0, and numbers of fourteen figures."""
     sums = sorted({total for total, stretch in pairs})
@@ -73,3 +92,11 @@ def is_stretch(value):
 
 def is_sum_and_stretch(value):
     return type(value) is tuple and len(value) == 2 and type(value[0]) is int and is_stretch(value[1])
+
+
+def are_stretches(value):
+    return type(value) is tuple and all(is_stretch(stretch) for stretch in value)
+
+
+# For rows of up to seven numbers: of more there are too many to go through.
+APART = [list(every_apart(many)) for many in range(8)]

@@ -36,6 +36,7 @@ BARRED_NAMES = set(
     "methodcaller os quit setattr super type vars sys".split()
 )
 MODULE_LEVEL = (ast.ImportFrom, ast.FunctionDef, ast.ClassDef, ast.Assign)
+ATTRIBUTES_LET_BY = set("count index title find get join lower upper split strip copy add".split())
 DOUBLE = {"__init__", "__eq__", "__repr__", "__str__", "__len__"}
 
 
@@ -162,6 +163,51 @@ class Language(unittest.TestCase):
                         if not isinstance(node, (ast.FunctionDef, ast.ClassDef))]
                 tops += [node.name for node in tree.body if isinstance(node, (ast.FunctionDef, ast.ClassDef))]
                 self.assertEqual(len(tops), len(set(tops)))
+
+    def test_attributes_and_methods(self):
+        methods = {part.name for file, text, tree in TREES for node in ast.walk(tree) if isinstance(node, ast.ClassDef)
+                   for part in node.body if isinstance(part, ast.FunctionDef)}
+        attributes = [node for file, text, tree in TREES for node in ast.walk(tree) if isinstance(node, ast.Attribute)]
+        assigned = {node.attr for node in attributes if isinstance(node.ctx, ast.Store)}
+        self.assertEqual(methods & assigned, set())
+        of_builtins = {name for kind in (str, int, list, tuple, dict, set, bytes) for name in dir(kind)}
+        self.assertEqual(assigned & of_builtins - ATTRIBUTES_LET_BY, set())
+        self.assertEqual(methods & of_builtins - METHODS - DOUBLE, set())
+        for node in attributes:
+            with self.subTest(attribute=node.attr):
+                self.assertIn(node.attr, assigned | methods | METHODS)
+
+    def test_local_names_are_no_imports_and_no_classes(self):
+        for file, text, tree in TREES:
+            tops = {alias.asname or alias.name for node in tree.body if isinstance(node, ast.ImportFrom)
+                    for alias in node.names}
+            tops |= {node.name for node in tree.body if isinstance(node, ast.ClassDef)}
+            for node in ast.walk(tree):
+                if isinstance(node, (ast.FunctionDef, ast.Lambda)):
+                    with self.subTest(file=file, line=node.lineno):
+                        parts = node.body if isinstance(node, ast.FunctionDef) else [node.body]
+                        local = bound_names(node.args) + [name for part in parts for name in bound_names(part)]
+                        self.assertEqual(tops & set(local), set())
+
+    def test_raise_makes_an_own_error_on_the_spot(self):
+        errors = {node.name for file, text, tree in TREES if file == "errors.py" for node in tree.body
+                  if isinstance(node, ast.ClassDef)}
+        for file, text, tree in TREES:
+            for node in ast.walk(tree):
+                if isinstance(node, ast.Raise):
+                    with self.subTest(file=file, line=node.lineno):
+                        self.assertIsInstance(node.exc, ast.Call)
+                        self.assertIsInstance(node.exc.func, ast.Name)
+                        self.assertIn(node.exc.func.id, errors)
+
+    def test_tables_hold_no_lists_and_no_tables(self):
+        for file, text, tree in TREES:
+            for node in tree.body:
+                if isinstance(node, ast.Assign):
+                    within = [part for part in ast.walk(node.value) if isinstance(part, (ast.List, ast.Dict))]
+                    with self.subTest(file=file, line=node.lineno):
+                        self.assertEqual([part for part in within if part != node.value], [])
+                        self.assertEqual([part for part in ast.walk(node.value) if isinstance(part, ast.Call)], [])
 
     def test_builtins_and_methods(self):
         own = {node.name for file, text, tree in TREES for node in ast.walk(tree)
